@@ -1,0 +1,98 @@
+"""The interface: each name stands in its file, with its arguments; each method in the body of its class."""
+
+import ast
+import importlib
+import inspect
+import pathlib
+import unittest
+
+PACKAGE = pathlib.Path(__file__).resolve().parent.parent / "coverstore"
+
+FUNCTIONS = {
+    "ranges": {
+        "is_bits": "value",
+        "is_value": "value, bits",
+        "is_range": "value, bits",
+        "range_of": "value, bits",
+        "bounds": "prefix, bits",
+        "common_range": "one, other, bits",
+        "least_cover": "first, last, bits",
+        "widest_range": "value, bits, barred=()",
+    },
+}
+
+# The arguments of each method without its own object or class; a property has None.
+CLASSES = {
+    "boxes": {
+        "Box": ("bits, ranges=()", {
+            "whole": "bits, length", "at": "bits, *values", "read": "bits, text",
+            "bits": None, "ranges": None, "size": None, "is_point": None,
+            "meets": "other", "holds": "point", "only_point": "", "half": "place, digit",
+            "joined": "other, place", "each_point": "",
+        }),
+    },
+}
+
+CLASS_VALUES = {("boxes", "Box", "MAX_RANGES"): 5}
+
+CLASS_METHODS = {("Box", "whole"), ("Box", "at"), ("Box", "read")}
+
+
+def defined_in(file):
+    """The names of the functions and classes whose definitions stand in a file."""
+    tree = ast.parse((PACKAGE / f"{file}.py").read_text())
+    return [node.name for node in tree.body if isinstance(node, (ast.FunctionDef, ast.ClassDef))]
+
+
+def arguments(function):
+    """The arguments of a function as the interface writes them."""
+    return str(inspect.signature(function))[1:-1]
+
+
+class InterfaceTest(unittest.TestCase):
+
+    def test_functions(self):
+        for file, functions in FUNCTIONS.items():
+            module = importlib.import_module(f"coverstore.{file}")
+            for name, expected in functions.items():
+                self.assertIn(name, defined_in(file))
+                self.assertEqual(expected, arguments(getattr(module, name)), name)
+
+    def test_classes(self):
+        for file, classes in CLASSES.items():
+            module = importlib.import_module(f"coverstore.{file}")
+            for name, (expected, methods) in classes.items():
+                self.assertIn(name, defined_in(file))
+                found = getattr(module, name)
+                self.assertEqual(expected, arguments(found), name)
+                for method, expected_there in methods.items():
+                    self.assert_method(found, method, expected_there)
+
+    def assert_method(self, found, method, expected):
+        self.assertIn(method, vars(found), f"{found.__name__}.{method}")
+        there = vars(found)[method]
+        if expected is None:
+            self.assertIsInstance(there, property)
+        elif (found.__name__, method) in CLASS_METHODS:
+            self.assertIsInstance(there, classmethod)
+            self.assertEqual(expected, arguments(getattr(found, method)), method)
+        else:
+            self.assertTrue(inspect.isfunction(there))
+            self.assertEqual(expected, arguments(there).removeprefix("self").removeprefix(", "), method)
+
+    def test_class_values(self):
+        for (file, name, value), expected in CLASS_VALUES.items():
+            module = importlib.import_module(f"coverstore.{file}")
+            self.assertEqual(expected, vars(getattr(module, name))[value])
+
+    def test_properties_are_not_assigned(self):
+        for file, classes in CLASSES.items():
+            module = importlib.import_module(f"coverstore.{file}")
+            for name, (_, methods) in classes.items():
+                for method, expected in methods.items():
+                    if expected is None:
+                        self.assertIsNone(vars(getattr(module, name))[method].fset)
+
+
+if __name__ == "__main__":
+    unittest.main()
