@@ -1,6 +1,7 @@
 """Of which kind a value is: questions that are asked all over the package, for any value."""
 
 MAX_NAME = 8
+LARGEST_PAYLOAD = 1000000000
 LETTERS = "abcdefghijklmnopqrstuvwxyz"
 RESERVED_WORDS = ("not", "by")
 
@@ -25,3 +26,8 @@ def is_name(value):
     if not isinstance(value, str) or not 1 <= len(value) <= MAX_NAME:
         return False
     return value.strip(LETTERS) == "" and value not in RESERVED_WORDS
+
+
+def is_payload(value):
+    """Whether a value is a payload."""
+    return is_int(value) and -LARGEST_PAYLOAD <= value <= LARGEST_PAYLOAD

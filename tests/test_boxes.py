@@ -295,7 +295,7 @@ class TwoBoxesTest(unittest.TestCase, Raises):
 
     def test_unlike(self):
         box = Box(3, ["0", "1"])
-        for other in (Box(4, ["0", "1"]), Box(3, ["0"]), Box(3, ["0", "1", ""]), Box(3)):
+        for other in (Box(4, ["0", "1"]), Box(3, ["0"]), Box(3, ["0", "1", ""]), Box(3), None, ("0", "1")):
             self.must_raise(Unlike, {}, lambda: box & other)
             self.must_raise(Unlike, {}, box.meets, other)
             self.must_raise(Unlike, {}, box.joined, other, 9)

@@ -19,6 +19,22 @@ FUNCTIONS = {
         "least_cover": "first, last, bits",
         "widest_range": "value, bits, barred=()",
     },
+    "queries": {"fit": "query, source"},
+    "evaluating": {
+        "key_at": "query, position, point",
+        "laid_over": "query, position, box",
+        "false_box": "query, position, point, bits",
+        "is_false_in": "query, position, box",
+        "literal_holds": "source, query, position, point",
+        "first_failing": "source, query, point",
+        "plain_answer": "source, query",
+    },
+}
+
+# What every source has.
+SOURCE_METHODS = {
+    "bits": None, "tables": "", "columns": "table", "orders": "table", "payload": "table, key",
+    "keys_in": "table, box", "is_clear": "table, box", "gap": "table, key, order=0", "gaps": "table, key",
 }
 
 # The arguments of each method without its own object or class; a property has None.
@@ -29,13 +45,42 @@ CLASSES = {
             "bits": None, "ranges": None, "size": None, "is_point": None,
             "meets": "other", "holds": "point", "only_point": "", "half": "place, digit",
             "joined": "other, place", "each_point": "",
+            "__eq__": "other", "__len__": "", "__str__": "", "__repr__": "",
+            "__getitem__": "place", "__contains__": "value", "__and__": "other",
+        }),
+    },
+    "bases": {
+        "Base": ("bits", {
+            "bits": None, "version": None, "oldest": None,
+            "add_table": "name, columns, *orders", "tables": "", "columns": "table", "orders": "table",
+            "commit": "writes", "payload": "table, key, version=None", "rows": "table, version=None",
+            "keys_in": "table, box, version=None", "changed_keys": "version=None",
+            "presence_break": "table, key, version=None", "payload_break": "table, key, version=None",
+            "clear_break": "table, box, version=None", "forget": "version", "snapshot": "version=None",
+        }),
+    },
+    "sources": {
+        "Source": (None, SOURCE_METHODS),
+        "Snapshot": ("base, version=None", {"version": None, **SOURCE_METHODS}),
+    },
+    "queries": {
+        "Query": ("literals, order=None", {
+            "read": "text", "variables": None, "literals": "", "in_order": "*variables",
+            "__eq__": "other", "__len__": "", "__str__": "", "__repr__": "",
         }),
     },
 }
 
-CLASS_VALUES = {("boxes", "Box", "MAX_RANGES"): 5}
+CLASS_VALUES = {
+    ("boxes", "Box", "MAX_RANGES"): 5,
+    ("bases", "Base", "MAX_TABLES"): 8,
+    ("bases", "Base", "MAX_PAYLOAD"): 10 ** 9,
+    ("queries", "Query", "MAX_LITERALS"): 8,
+    ("queries", "Query", "MAX_VARIABLES"): 5,
+    ("queries", "Query", "MAX_INTEGER"): 1023,
+}
 
-CLASS_METHODS = {("Box", "whole"), ("Box", "at"), ("Box", "read")}
+CLASS_METHODS = {("Box", "whole"), ("Box", "at"), ("Box", "read"), ("Query", "read")}
 
 
 def defined_in(file):
@@ -64,7 +109,8 @@ class InterfaceTest(unittest.TestCase):
             for name, (expected, methods) in classes.items():
                 self.assertIn(name, defined_in(file))
                 found = getattr(module, name)
-                self.assertEqual(expected, arguments(found), name)
+                if expected is not None:
+                    self.assertEqual(expected, arguments(found), name)
                 for method, expected_there in methods.items():
                     self.assert_method(found, method, expected_there)
 
