@@ -67,7 +67,7 @@ def widest_range(value, bits, barred=()):
         if not is_value(element, bits) or element == value:
             raise InvalidValue(element)
     lengths = [shared_digits(value, element, bits) + 1 for element in barred]
-    return range_of(value, bits)[:max([0, *lengths])]
+    return range_of(value, bits)[:max([0] + lengths)]
 
 
 def check_bits(bits):

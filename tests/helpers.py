@@ -1,4 +1,8 @@
-"""What several tests need: values of other kinds, and a call that must raise a given error."""
+"""What several tests need: values of other kinds, all ranges, boxes and points, a call that must raise an error."""
+
+import itertools
+
+from coverstore.boxes import Box
 
 # Values that are no integers; True and False stand first, since they equal 1 and 0.
 NOT_INTEGERS = (True, False, None, "1", "", b"1", (), (1,), [], [1], {}, {1: 1}, object(), int, len)
@@ -30,6 +34,26 @@ class EqualsAll:
 
     def __hash__(self):
         return 0
+
+
+def digits_of(value, bits):
+    """The digits of a value, worked out one by one."""
+    return "".join(str(value // 2 ** place % 2) for place in range(bits - 1, -1, -1))
+
+
+def all_ranges(bits):
+    """All ranges for so many bits."""
+    return ["".join(digits) for length in range(bits + 1) for digits in itertools.product("01", repeat=length)]
+
+
+def all_boxes(bits, length):
+    """All boxes with so many ranges."""
+    return [Box(bits, ranges) for ranges in itertools.product(all_ranges(bits), repeat=length)]
+
+
+def all_points(bits, length):
+    """All points with so many values, in ascending order."""
+    return list(itertools.product(range(2 ** bits), repeat=length))
 
 
 def told(error):

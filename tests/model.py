@@ -1,12 +1,8 @@
 """A slow base, written down straight from the document, with which the quick one is compared."""
 
-import itertools
-
 from coverstore.boxes import Box
 
-
-def digits_of(value, bits):
-    return "".join(str(value // 2 ** place % 2) for place in range(bits - 1, -1, -1))
+from helpers import all_points, digits_of
 
 
 class Model:
@@ -21,7 +17,7 @@ class Model:
         self.forms[name] = [tuple(range(columns)), *orders]
 
     def all_keys(self, table):
-        return list(itertools.product(range(2 ** self.bits), repeat=len(self.forms[table][0])))
+        return all_points(self.bits, len(self.forms[table][0]))
 
     def commit(self, writes):
         """Perform the writes, or return the ("taken" or "none", table, key) of the first that does not succeed."""

@@ -8,25 +8,10 @@ from coverstore.errors import InvalidBits, InvalidBox, InvalidCount, InvalidPlac
 from coverstore.errors import NoHalf, NotAPoint, NotJoined, Unlike
 
 from helpers import NOT_INTEGERS, NOT_LISTS, NOT_STRINGS, NOT_TUPLES, EqualsAll, Raises
+from helpers import all_boxes, all_points, digits_of
 
 NO_BITS = (0, 11, -1, 2 ** 70, EqualsAll()) + NOT_INTEGERS
 NO_RANGES = ("0000", "2", "0\n", "*", "-", " ") + NOT_STRINGS
-
-
-def all_ranges(bits):
-    return ["".join(digits) for length in range(bits + 1) for digits in itertools.product("01", repeat=length)]
-
-
-def all_boxes(bits, length):
-    return [Box(bits, ranges) for ranges in itertools.product(all_ranges(bits), repeat=length)]
-
-
-def all_points(bits, length):
-    return list(itertools.product(range(2 ** bits), repeat=length))
-
-
-def digits_of(value, bits):
-    return "".join(str(value // 2 ** place % 2) for place in range(bits - 1, -1, -1))
 
 
 def points_in(box):

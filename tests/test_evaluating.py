@@ -11,27 +11,11 @@ from coverstore.errors import UnknownTable, Unlike, WrongColumns
 from coverstore.evaluating import false_box, first_failing, is_false_in, key_at, laid_over, literal_holds, plain_answer
 from coverstore.queries import Query
 
-from helpers import NOT_INTEGERS, NOT_TUPLES, EqualsAll, Numbers, Raises
+from helpers import NOT_INTEGERS, NOT_TUPLES, EqualsAll, Numbers, Raises, all_boxes, all_points, digits_of
 
 SIGNS = {"<": operator.lt, "<=": operator.le, "=": operator.eq, "!=": operator.ne}
 
 NO_PLACES = (-1, 4, 2 ** 70, EqualsAll()) + NOT_INTEGERS
-
-
-def digits_of(value, bits):
-    return "".join(str(value // 2 ** place % 2) for place in range(bits - 1, -1, -1))
-
-
-def all_ranges(bits):
-    return ["".join(digits) for length in range(bits + 1) for digits in itertools.product("01", repeat=length)]
-
-
-def all_boxes(bits, length):
-    return [Box(bits, ranges) for ranges in itertools.product(all_ranges(bits), repeat=length)]
-
-
-def all_points(bits, length):
-    return list(itertools.product(range(2 ** bits), repeat=length))
 
 
 def put_in(query, position, point):
@@ -72,8 +56,9 @@ class KeyTest(unittest.TestCase, Raises):
 class LaidOverTest(unittest.TestCase, Raises):
 
     def test_exactly_the_points_whose_key_is_in_the_box(self):
-        for bits, text in ((2, "r(x,y)"), (2, "not r(x,x)"), (2, "r(x,3)"), (2, "not r(1,2)"), (2, "r(y,x), z < x by z,y,x"),
-                           (1, "r(x,y,x)"), (1, "r(x,x,x)"), (1, "not r(x,0,x), y < z"), (1, "r(x,y,1,x)")):
+        for bits, text in ((2, "r(x,y)"), (2, "not r(x,x)"), (2, "r(x,3)"), (2, "not r(1,2)"),
+                           (2, "r(y,x), z < x by z,y,x"), (1, "r(x,y,x)"), (1, "r(x,x,x)"),
+                           (1, "not r(x,0,x), y < z"), (1, "r(x,y,1,x)")):
             query = Query.read(text)
             points = all_points(bits, len(query.variables))
             for box in all_boxes(bits, len(query.literals()[0][2])):
@@ -317,7 +302,8 @@ class PlainAnswerTest(unittest.TestCase, Raises):
         self.must_raise(TooLarge, {"count": 2 ** 20}, plain_answer, Base(10).snapshot(), Query.read("x < y"))
         five = Query.read("a < 1, b < 1, c < 1, d < 1, e < 1")
         self.must_raise(TooLarge, {"count": 2 ** 50}, plain_answer, Base(10).snapshot(), five)
-        self.must_raise(InvalidValue, {"value": 16}, plain_answer, Base(4).snapshot(), Query.read("a < b, c < d, d < 16"))
+        query = Query.read("a < b, c < d, d < 16")
+        self.must_raise(InvalidValue, {"value": 16}, plain_answer, Base(4).snapshot(), query)
 
     def test_too_large_before_too_old(self):
         base = Base(4)

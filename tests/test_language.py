@@ -160,8 +160,9 @@ class NamesTest(unittest.TestCase):
 
     def test_no_binding_hides_another(self):
         for file, function in walk(ast.FunctionDef):
-            taken = [alias.name for node in TREES[file].body if isinstance(node, ast.ImportFrom) for alias in node.names]
-            taken += [node.name for node in TREES[file].body if isinstance(node, (ast.ClassDef, ast.FunctionDef))]
+            body = TREES[file].body
+            taken = [alias.name for node in body if isinstance(node, ast.ImportFrom) for alias in node.names]
+            taken += [node.name for node in body if isinstance(node, (ast.ClassDef, ast.FunctionDef))]
             for name in bound_names(function):
                 self.assertNotIn(name, taken, (file, function.name))
                 self.assertFalse(hasattr(builtins, name), (file, function.name, name))

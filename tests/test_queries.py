@@ -66,7 +66,8 @@ class MakingTest(unittest.TestCase, Raises):
             ("row", "r", ["x"]), ("row", "r", "x"), ("Row", "r", ("x",)), ("not", "r", ("x",)), ("", "r", ("x",)),
             (">", "x", "y"), (">=", "x", "y"), ("==", "x", "y"), ("!", "x", "y"), ("<=>", "x", "y"), ("<", "x"),
             ("<", "x", "y", "z"), ("<", 1, 2), ("!=", 0, 0), ("=", ("x", "y")), ["<", "x", "y"], ["row", "r", ("x",)],
-            (EqualsAll(), "x", "y"), (EqualsAll(), "r", ("x",)), (("row",), "r", ("x",)), (["<"], "x", "y"), "row", "<xy",
+            (EqualsAll(), "x", "y"), (EqualsAll(), "r", ("x",)), (("row",), "r", ("x",)), (["<"], "x", "y"),
+            "row", "<xy",
         ]
         wrong += [("row", name, ("x",)) for name in NOT_NAMES] + [("none", name, ("x",)) for name in NOT_NAMES]
         wrong += [("row", "r", ("x", term)) for term in NO_TERMS] + [("none", "r", (term, 1)) for term in NO_TERMS]
@@ -88,8 +89,9 @@ class MakingTest(unittest.TestCase, Raises):
 
     def test_wrong_orders(self):
         literals = [("<", "x", "y"), ("row", "r", ("z", "x"))]
-        wrong = ((), ("x", "y"), ("x", "y", "z", "x"), ("x", "x", "z"), ("x", "y", "w"), ("x", "y", 1), ("x", "y", None),
-                 ("x", "y", ("z",)), ("x", "y", ["z"]), ["x", "y", "z"], "xyz", {"x": 0, "y": 0, "z": 0}, EqualsAll())
+        wrong = ((), ("x", "y"), ("x", "y", "z", "x"), ("x", "x", "z"), ("x", "y", "w"), ("x", "y", 1),
+                 ("x", "y", None), ("x", "y", ("z",)), ("x", "y", ["z"]), ["x", "y", "z"], "xyz",
+                 {"x": 0, "y": 0, "z": 0}, EqualsAll())
         for order in wrong + tuple(value for value in NOT_TUPLES if value is not None):
             self.must_raise(InvalidQuery, problem("order"), Query, literals, order)
         for order in wrong[:9]:
@@ -172,18 +174,24 @@ class TextTest(unittest.TestCase, Raises):
 
     def test_other_texts(self):
         texts = (
-            "", " ", ",", ", ", "r", "r()", "r(", "r(x", "r x)", "(x)", "x)", ")", "r(x))", "r((x)", "r(x)(y)", "r(x,)",
+            "", " ", ",", ", ", "r", "r()", "r(", "r(x", "r x)", "(x)", "x)", ")", "r(x))",
+            "r((x)", "r(x)(y)", "r(x,)",
             "r(,x)", "r(x, y)", "r( x)", "r(x )", "r (x)", " r(x)", "r(x) ", "r(x)\n", "r(x),s(x)", "r(x),  s(x)",
             "r(x) , s(x)", "r(x), ", ", r(x)", "r(x);s(x)", "not", "not ", "not  r(x)", "not not r(x)",
-            "not(x)", "by(x)", "r(not)", "r(by)", "not not(x)", "not r(x", "not rx", "not x < 3", "R(x)", "r(X)", "r(1x)",
-            "r(x1)", "r(01)", "r(00)", "r(0001)", "r(1024)", "r(9999)", "r(10000)", "r(00001)", "r(-1)", "r(+1)", "r(1_0)",
+            "not(x)", "by(x)", "r(not)", "r(by)", "not not(x)", "not r(x", "not rx", "not x < 3",
+            "R(x)", "r(X)", "r(1x)",
+            "r(x1)", "r(01)", "r(00)", "r(0001)", "r(1024)", "r(9999)", "r(10000)", "r(00001)",
+            "r(-1)", "r(+1)", "r(1_0)",
             "r(1 0)", "r(x,x,x,x,x)", "r(abcdefghi)", "abcdefghi(x)", "x<3", "x <3", "x< 3", "x  < 3", " x < 3",
-            "x < 3 ", "x < 03", "x < 1024", "1 < 2", "x > 3", "x == 3", "x <> y", "x => y", "x", "x <", "< x", "x < y < z",
+            "x < 3 ", "x < 03", "x < 1024", "1 < 2", "x > 3", "x == 3", "x <> y", "x => y", "x",
+            "x <", "< x", "x < y < z",
             "not < x", "x < not", "x < by", "by < x", "r(x,y) by x,y", "r(x,y) by y", "r(x,y) by y,x,x", "r(x,y) by ",
             "r(x,y) by", "r(x,y)by y,x", "r(x,y) by  y,x", "r(x,y) by y, x", "r(x,y) by y,x ", "r(x,y)  by y,x",
-            "r(x,y) by y,z", "r(x,y) by y,x by y,x", "r(x,y) BY y,x", "r(1) by ", "r(1) by x", "r(x,y), by y,x", "by y,x",
+            "r(x,y) by y,z", "r(x,y) by y,x by y,x", "r(x,y) BY y,x", "r(1) by ", "r(1) by x",
+            "r(x,y), by y,x", "by y,x",
             " by y,x", "r(x,y) by 1", "r(x,y)\nby y,x", "r(x)\n, s(x)", "x\n< 3", ", ".join(["r(x)"] * 9),
-            "r(a,b,c), r(d,e,f)", "r(" + "1" * 5000 + ")", "1" * 20000, "x < " + "9" * 5000, "(" * 20000, ", " * 10000,
+            "r(a,b,c), r(d,e,f)", "r(" + "1" * 5000 + ")",
+            "1" * 20000, "x < " + "9" * 5000, "(" * 20000, ", " * 10000,
         )
         for text in texts + NOT_STRINGS:
             self.must_raise(InvalidText, {"value": text}, Query.read, text)

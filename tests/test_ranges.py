@@ -7,19 +7,9 @@ from coverstore.errors import InvalidBits, InvalidRange, InvalidValue
 from coverstore.ranges import bounds, common_range, is_bits, is_range, is_value
 from coverstore.ranges import least_cover, range_of, widest_range
 
-from helpers import NOT_INTEGERS, NOT_STRINGS, EqualsAll, Raises
+from helpers import NOT_INTEGERS, NOT_STRINGS, EqualsAll, Raises, all_ranges, digits_of
 
 NO_BITS = (0, 11, -1, 12, 2 ** 70, -2 ** 70, EqualsAll()) + NOT_INTEGERS
-
-
-def all_ranges(bits):
-    """All ranges for so many bits."""
-    return ["".join(digits) for length in range(bits + 1) for digits in itertools.product("01", repeat=length)]
-
-
-def digits_of(value, bits):
-    """The digits of a value, worked out one by one."""
-    return "".join(str(value // 2 ** place % 2) for place in range(bits - 1, -1, -1))
 
 
 def values_in(prefix, bits):

@@ -1,6 +1,5 @@
 """Points [13] and [15]: gaps and snapshots; and a base compared with one that is written down from the document."""
 
-import itertools
 import unittest
 
 from coverstore.bases import Base
@@ -8,7 +7,7 @@ from coverstore.boxes import Box
 from coverstore.errors import InvalidKey, InvalidPlace, KeyTaken, NoSuchRow, NotClear, TooOld, UnknownTable, Unlike
 from coverstore.sources import Snapshot, Source
 
-from helpers import NOT_INTEGERS, NOT_NAMES, NOT_TUPLES, EqualsAll, Numbers, Raises
+from helpers import NOT_INTEGERS, NOT_NAMES, NOT_TUPLES, EqualsAll, Numbers, Raises, all_boxes, all_points
 from model import Model
 
 ORDERS = {
@@ -54,7 +53,7 @@ class GapTest(unittest.TestCase, Raises):
         numbers = Numbers(4)
         for table, orders in ORDERS.items():
             width = len(orders[0])
-            keys = list(itertools.product(range(4), repeat=width))
+            keys = all_points(2, width)
             present = [key for key in keys if numbers.below(3) == 0]
             source = filled(table, 2, present)
             for key in keys:
@@ -274,10 +273,8 @@ class ModelTest(unittest.TestCase, Raises):
         source = base.snapshot(version)
         for key in model.all_keys(table):
             self.compare_key(base, model, source, table, key, version)
-        bits, width = base.bits, len(model.forms[table][0])
-        parts = ["".join(digits) for length in range(bits + 1) for digits in itertools.product("01", repeat=length)]
-        for ranges in itertools.product(parts, repeat=width):
-            self.compare_box(base, model, source, table, Box(bits, ranges), version)
+        for box in all_boxes(base.bits, len(model.forms[table][0])):
+            self.compare_box(base, model, source, table, box, version)
 
     def compare_key(self, base, model, source, table, key, version):
         payload = model.payload(table, key, version)
