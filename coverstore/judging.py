@@ -31,8 +31,13 @@ def check_key(shape, table, key):
 
 def check_columns_box(shape, table, box):
     """Raise the error of what is no table, or no box of its columns."""
-    check_length(box, shape.columns(table))
-    if box.bits != shape.bits:
+    check_box(box, shape.bits, shape.columns(table))
+
+
+def check_box(box, bits, length):
+    """Raise Unlike for a box with other bits or another number of ranges."""
+    check_length(box, length)
+    if box.bits != bits:
         raise Unlike()
 
 

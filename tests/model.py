@@ -1,8 +1,45 @@
 """A slow base, written down straight from the document, with which the quick one is compared."""
 
+from coverstore.bases import Base
 from coverstore.boxes import Box
 
-from helpers import all_points, digits_of
+from helpers import Numbers, all_points, digits_of
+
+# The orders of the tables that most papers in the tests are about.
+FORMS = {"r": [(0, 1), (1, 0)], "s": [(0,)], "t": [(0, 1, 2), (2, 0, 1), (1, 2, 0)]}
+
+
+def commit_to_both(base, model, writes):
+    """Commit writes that succeed."""
+    assert model.commit(writes) is None
+    base.commit(writes)
+
+
+def some_writes(numbers, model, many):
+    """Writes that can be performed: some keys come, some go, some get another payload."""
+    writes, left = [], dict(model.versions[-1])
+    for _ in range(many):
+        table = numbers.one_of(sorted(model.forms))
+        key = numbers.one_of(model.all_keys(table))
+        kind = numbers.one_of(("update", "delete")) if (table, key) in left else "insert"
+        payload = numbers.below(100) - 50
+        writes.append((kind, table, key) if kind == "delete" else (kind, table, key, payload))
+        if kind == "delete":
+            del left[table, key]
+        else:
+            left[table, key] = payload
+    return writes
+
+
+def filled_pair(seed, bits, commits=1, many=12, forms=None):
+    """A base, and a model with the same tables and versions."""
+    numbers, base, model = Numbers(seed), Base(bits), Model(bits)
+    for name, orders in (forms or FORMS).items():
+        for one in (base, model):
+            one.add_table(name, len(orders[0]), *orders[1:])
+    for _ in range(commits):
+        commit_to_both(base, model, some_writes(numbers, model, many))
+    return base, model
 
 
 class Model:

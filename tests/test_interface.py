@@ -29,6 +29,11 @@ FUNCTIONS = {
         "first_failing": "source, query, point",
         "plain_answer": "source, query",
     },
+    "checks": {"accepts": "source, query, answer, paper", "wrong_line": "source, paper"},
+    "engine": {
+        "paper_of": "source, query, *, box=None, limit=2000",
+        "best_order": "source, query, *, limit=2000",
+    },
 }
 
 # What every source has.
@@ -69,6 +74,18 @@ CLASSES = {
             "__eq__": "other", "__len__": "", "__str__": "", "__repr__": "",
         }),
     },
+    "papers": {
+        "Paper": ("bits, query, lines", {
+            "bits": None, "query": None, "closing": None, "is_trimmed": None,
+            "lines": "", "box": "number", "points": "", "needed": "", "trimmed": "", "read": "bits, query, text",
+            "__eq__": "other", "__len__": "", "__str__": "", "__repr__": "",
+        }),
+    },
+    "groups": {
+        "Grouping": ("query, by=(), what='count', of=None", {
+            "by": None, "what": None, "of": None, "results": "source, points", "__eq__": "other",
+        }),
+    },
 }
 
 CLASS_VALUES = {
@@ -80,7 +97,7 @@ CLASS_VALUES = {
     ("queries", "Query", "MAX_INTEGER"): 1023,
 }
 
-CLASS_METHODS = {("Box", "whole"), ("Box", "at"), ("Box", "read"), ("Query", "read")}
+CLASS_METHODS = {("Box", "whole"), ("Box", "at"), ("Box", "read"), ("Query", "read"), ("Paper", "read")}
 
 
 def defined_in(file):
