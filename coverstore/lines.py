@@ -145,10 +145,12 @@ def fact_at_point(query, literal, point):
 
 def is_hit(query, line, table, key):
     """Whether a key of a table occurs in a fact of a line."""
-    for word, place, part in facts_of(query, line):
-        if place == table and (part.holds(key) if word == "clear" else part == key):
-            return True
-    return False
+    return any([named == table and has_key(part, key) for _, named, part in facts_of(query, line)])
+
+
+def has_key(part, key):
+    """Whether the box or the key of a fact contains, or is, a key."""
+    return part.holds(key) if isinstance(part, Box) else part == key
 
 
 def text_of_line(line):
@@ -167,8 +169,9 @@ def read_line(bits, text):
     """The line that has this text; for another text anything that has not this text or is no line."""
     words = text.split(" ")
     kind = words[0]
-    if kind not in PARTS or len(words) != len(PARTS[kind]) + 1:
+    if kind not in PARTS:
         return None
+    # Words that are left over are missing in the text of the line that is read.
     parts = [read_part(bits, meant, word) for meant, word in zip(PARTS[kind], words[1:])]
     return (kind, *parts)
 

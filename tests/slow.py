@@ -7,6 +7,8 @@ import itertools
 import operator
 
 from coverstore.boxes import Box
+from coverstore.errors import InvalidPaper
+from coverstore.papers import Paper
 
 from helpers import digits_of
 
@@ -175,3 +177,83 @@ def plain(model, version, query):
     slow = SlowPaper(model, version, query)
     points = itertools.product(range(2 ** model.bits), repeat=len(query.variables))
     return [point for point in points if slow.first_failing(point) is None]
+
+
+def is_broken(model, version, query, line):
+    """Whether a fact of a line does not hold at a version."""
+    if line[0] == "gap":
+        return model.keys_in(query.literals()[line[1]][1], line[2], version) != []
+    if line[0] == "row":
+        return model.payload(query.literals()[line[1]][1], line[2], version) is None
+    if line[0] == "point":
+        return SlowPaper(model, version, query).first_failing(line[1]) is not None
+    return False
+
+
+def slow_repair(model, version, paper):
+    """The lines of the repaired paper, the lost points, the found points, the probed points."""
+    query = paper.query
+    old, new = SlowPaper(model, version, query), SlowPaper(model, version, query)
+    for number, line in enumerate(paper.lines()):
+        old.append(line, paper.box(number).ranges)
+    numbers, lost, kept = {}, set(), old.needed(len(paper) - 1)
+    for at in kept:
+        line, ranges = old.lines[at], old.boxes[at]
+        if not is_broken(model, version, query, line):
+            if line[0] in ("gap", "false", "part"):
+                line = line[:-1] + (line[-1].ranges,)
+            numbers[at] = new.append(renamed(line, numbers.get), ranges)
+            continue
+        if line[0] == "point":
+            lost.add(line[1])
+        numbers[at] = new.line_for(ranges)
+    lines = new.trimmed(numbers[kept[-1]])
+    points = {line[1] for line in lines if line[0] == "point"}
+    had = {old.lines[at][1] for at in kept if old.lines[at][0] == "point"}
+    return lines, sorted(lost), sorted(points - had), new.probed
+
+
+def slow_break(model, version, paper):
+    """The first later version at which a line is broken, or None."""
+    return next((
+        later for later in range(version + 1, len(model.versions))
+        if any(is_broken(model, later, paper.query, line) for line in paper.lines())), None)
+
+
+def first_broken(model, version, paper):
+    """The number of the first line that is broken at a version, or None."""
+    return next((at for at, line in enumerate(paper.lines()) if is_broken(model, version, paper.query, line)), None)
+
+
+def some_paper(numbers, bits, query, lines, more):
+    """A paper with these lines, and so many further ones, of any kind, among them and behind them."""
+    width = len(query.variables)
+
+    def some_box(length):
+        return Box(bits, ["".join(numbers.one_of("01") for _ in range(numbers.below(bits + 1))) for _ in range(length)])
+
+    def some_values(length):
+        return tuple(numbers.below(2 ** bits) for _ in range(length))
+
+    def some_line(count):
+        position = numbers.below(len(query))
+        kind, _, terms = query.literals()[position]
+        if kind in ("row", "none") and numbers.below(3) == 0:
+            part = some_box(len(terms)) if kind == "row" else some_values(len(terms))
+            return "gap" if kind == "row" else "row", position, part
+        return numbers.one_of([
+            ("false", position, some_box(width)), ("point", some_values(width)),
+            ("join", numbers.below(count), numbers.below(count), numbers.below(max(1, width))),
+            ("part", numbers.below(count), some_box(width)), ("part", count - 1, some_box(width)),
+        ])
+
+    while more > 0:
+        at = numbers.below(len(lines)) + 1 if numbers.below(3) else len(lines)
+        moved = [renamed(line, lambda number: number + (number >= at)) for line in lines[at:]]
+        changed = lines[:at] + [some_line(at)] + moved
+        try:
+            Paper(bits, query, changed)
+        except InvalidPaper:
+            continue
+        lines, more = changed, more - 1
+    return Paper(bits, query, lines)

@@ -160,7 +160,8 @@ class AcceptsTest(unittest.TestCase, Raises):
                                     paper=paper_of(self.source, QUERY)))
 
     def test_other_answers(self):
-        for answer in ([], (), [(0, 1), (0, 1)], [(0, 1), (0, 2)], [(0, 0), (0, 1)], [(1, 0)], [(0, True)], [(False, 1)],
+        for answer in ([], (), [(0, 1), (0, 1)], [(0, 1), (0, 2)], [(0, 0), (0, 1)], [(1, 0)], [(0, True)],
+                       [(False, 1)],
                        [[0, 1]], [(0, 1, 0)], [(0,)], [()], (0, 1), [0, 1], [None], [EqualsAll()], EqualsAll(),
                        [((0, 1),)], [("0", "1")], {(0, 1): True}, {(0, 1)}, "01", self.paper) + NOT_LISTS:
             self.assertIs(False, self.accepts(answer, self.paper))

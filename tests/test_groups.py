@@ -33,8 +33,8 @@ def problem(name):
 class MakingTest(unittest.TestCase, Raises):
 
     def test_properties(self):
-        for by, what, of in (((), "count", None), (("x",), "sum", "y"), (("z", "x"), "least", 0), (("y",), "greatest", 3),
-                             (("z", "y", "x"), "sum", "z")):
+        for by, what, of in (((), "count", None), (("x",), "sum", "y"), (("z", "x"), "least", 0),
+                             (("y",), "greatest", 3), (("z", "y", "x"), "sum", "z")):
             grouping = Grouping(QUERY, by, what, of)
             self.assertEqual((by, what, of), (grouping.by, grouping.what, grouping.of))
             self.assertEqual(grouping, Grouping(query=QUERY, by=by, what=what, of=of))
@@ -42,7 +42,8 @@ class MakingTest(unittest.TestCase, Raises):
         self.assertEqual(((), "count", None), (grouping.by, grouping.what, grouping.of))
 
     def test_by(self):
-        for by in (("w",), ("x", "x"), ("x", "y", "x"), ("x", "w"), ("x", 0), ("x", True), ("x", None), ("",), (("x",),),
+        for by in (("w",), ("x", "x"), ("x", "y", "x"), ("x", "w"), ("x", 0), ("x", True), ("x", None), ("",),
+                   (("x",),),
                    ["x"], "x", "xy", {"x": 0}, EqualsAll(), (EqualsAll(),), ("x", EqualsAll()), (["x"],)) + NOT_TUPLES:
             self.must_raise(InvalidGroups, problem("by"), Grouping, QUERY, by, "no", "w")
             self.must_raise(InvalidGroups, problem("by"), Grouping, QUERY, by)
@@ -81,7 +82,8 @@ class MakingTest(unittest.TestCase, Raises):
         self.assertFalse(one != Grouping(QUERY, ("x", "y"), "sum", "z"))
         for other in (Grouping(QUERY, ("y", "x"), "sum", "z"), Grouping(QUERY, ("x",), "sum", "z"),
                       Grouping(QUERY, ("x", "y"), "least", "z"), Grouping(QUERY, ("x", "y"), "sum", "y"),
-                      Grouping(QUERY, ("x", "y"), "sum", 0), Grouping(QUERY.in_order("z", "y", "x"), ("x", "y"), "sum", "z"),
+                      Grouping(QUERY, ("x", "y"), "sum", 0),
+                      Grouping(QUERY.in_order("z", "y", "x"), ("x", "y"), "sum", "z"),
                       Grouping(QUERY, ("x", "y")), None, QUERY, (QUERY, ("x", "y"), "sum", "z"), "sum"):
             self.assertFalse(one == other)
             self.assertTrue(one != other)

@@ -34,6 +34,8 @@ FUNCTIONS = {
         "paper_of": "source, query, *, box=None, limit=2000",
         "best_order": "source, query, *, limit=2000",
     },
+    "breaks": {"paper_break": "base, version, paper", "broken_lines": "source, paper"},
+    "repair": {"repaired": "source, paper"},
 }
 
 # What every source has.
@@ -84,6 +86,21 @@ CLASSES = {
     "groups": {
         "Grouping": ("query, by=(), what='count', of=None", {
             "by": None, "what": None, "of": None, "results": "source, points", "__eq__": "other",
+        }),
+    },
+    "repair": {
+        "Repair": (None, {"paper": None, "is_changed": None, "lost": "", "found": "", "probed": ""}),
+    },
+    "keepers": {
+        "Keeper": ("base", {
+            "keep": "name, query, *, limit=2000", "release": "name", "names": "",
+            "kept_query": "name", "kept_paper": "name", "version_of": "name", "answer": "name, version=None",
+            "catch_up": "*names", "hits": "table, key", "__len__": "", "__contains__": "value",
+        }),
+    },
+    "views": {
+        "View": ("keeper, name, query, by=(), what='count', of=None", {
+            "results": "version=None", "difference": "version",
         }),
     },
 }

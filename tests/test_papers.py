@@ -137,7 +137,8 @@ class LinesTest(unittest.TestCase, Raises):
         self.no_line(("false", 0, box("0")), Query.read("x < 1"), [])
 
     def test_points(self):
-        for values in ((), (1,), (1, 2, 3), (0, 4), (-1, 0), (True, 0), (0, False), (0, None), ("0", "0"), box("00", "00"),
+        for values in ((), (1,), (1, 2, 3), (0, 4), (-1, 0), (True, 0), (0, False), (0, None), ("0", "0"),
+                       box("00", "00"),
                        ((0, 0),), EqualsAll(), (EqualsAll(), 0), "00") + NOT_TUPLES:
             self.no_line(("point", values))
         self.assertEqual("11,01", self.one_line(2, "r(x,y)", ("point", (3, 1))))
@@ -361,9 +362,10 @@ class TextTest(unittest.TestCase, Raises):
             TEXT.replace("point 3,2", "point (3,2)"), TEXT.replace("point 3,2", "point 3,,2"),
             TEXT.replace("join 3 4 0", "join 3 4"), TEXT.replace("join 3 4 0", "join 4 3 0"),
             TEXT.replace("join 3 4 0", "join 3,4 0"), TEXT.replace("join 3 4 0", "join 3 4 0 0"),
-            TEXT.replace("join 3 4 0", "join 3 4 " + "0" * 5000), TEXT.replace("join 3 4 0", "join " + "9" * 5000 + " 4 0"),
-            TEXT.replace("part 8", "part 9"), TEXT.replace("part 8", "part 08"), TEXT.replace("*,*\n", "*,*"), "point\n",
-            "gap 0 0,*", "0\n", "gap\n", " \n", "-\n",
+            TEXT.replace("join 3 4 0", "join 3 4 " + "0" * 5000),
+            TEXT.replace("join 3 4 0", "join " + "9" * 5000 + " 4 0"), TEXT.replace("part 8", "part 9"),
+            TEXT.replace("part 8", "part 08"), TEXT.replace("*,*\n", "*,*"), "point\n", "gap 0 0,*",
+            "0\n", "gap\n", " \n", "-\n",
         ]
         for text in wrong:
             self.assertNotEqual(TEXT, text)
