@@ -7,6 +7,7 @@ from coverstore.boxes import Box
 from coverstore.breaks import broken_lines, paper_break
 from coverstore.engine import paper_of
 from coverstore.errors import InvalidValue, TooOld, UnknownTable, UnknownVersion, Unlike, WrongColumns, WrongLine
+from coverstore.lines import facts_of
 from coverstore.papers import Paper
 from coverstore.queries import Query
 
@@ -42,6 +43,16 @@ def small_base():
 
 def paper(*lines, query=QUERY, bits=2):
     return Paper(bits, query, lines)
+
+
+class FactsTest(unittest.TestCase):
+
+    def test_facts_of_each_kind(self):
+        self.assertEqual([("clear", "r", box("01"))], facts_of(QUERY, ("gap", 0, box("01"))))
+        self.assertEqual([("present", "s", (1,))], facts_of(QUERY, ("row", 1, (1,))))
+        self.assertEqual([("present", "r", (0,)), ("absent", "s", (0,))], facts_of(QUERY, ("point", (0,))))
+        for line in (("false", 2, box("11")), ("part", 0, box("01")), ("join", 0, 1, 0)):
+            self.assertEqual([], facts_of(QUERY, line))
 
 
 class PaperBreakTest(unittest.TestCase, Raises):

@@ -113,8 +113,8 @@ class WorkedOutTest(unittest.TestCase):
         base = self.base(2, 1)
         expected = ("false 0 00,00\npoint 0,1\njoin 0 1 1\npoint 0,2\npoint 0,3\njoin 3 4 1\njoin 2 5 1\n"
                     "false 0 01,00\nfalse 0 01,01\njoin 7 8 1\npoint 1,2\npoint 1,3\njoin 10 11 1\njoin 9 12 1\n"
-                    "join 6 13 0\nfalse 0 1,0\nfalse 0 10,10\npoint 2,3\njoin 16 17 1\njoin 15 18 1\nfalse 0 11,10\nfalse 0 11,11\n"
-                    "join 20 21 1\njoin 15 22 1\njoin 19 23 0\njoin 14 24 0\n")
+                    "join 6 13 0\nfalse 0 1,0\nfalse 0 10,10\npoint 2,3\njoin 16 17 1\njoin 15 18 1\n"
+                    "false 0 11,10\nfalse 0 11,11\njoin 20 21 1\njoin 15 22 1\njoin 19 23 0\njoin 14 24 0\n")
         self.assertEqual(expected, text_of(base, Query.read("x < y")))
 
 
