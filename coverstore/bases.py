@@ -1,8 +1,8 @@
 """Bases: tables whose rows are changed by commits, and the versions that the commits make."""
 
 from coverstore.errors import InvalidColumns, InvalidName, InvalidOrder, NameTaken, NoSuchRow, NotClear
-from coverstore.errors import TooMany, TooOld, UnknownTable, UnknownVersion
-from coverstore.judging import check_columns_box, check_key, meant_version
+from coverstore.errors import TooMany, TooOld, UnknownTable
+from coverstore.judging import check_columns_box, check_key, meant_version, named_version
 from coverstore.kinds import is_int, is_name, is_place
 from coverstore.ranges import bounds, check_bits
 from coverstore.sources import Snapshot
@@ -67,16 +67,20 @@ class Base:
 
     def add_table(self, name, columns, *orders):
         """Add a table that is empty at all versions up to now; orders are those after the ascending one."""
+        self._tables[name] = Table(columns, self.orders_to_add(name, columns, orders))
+
+    def orders_to_add(self, name, columns, further):
+        """The list of all orders of a table that can be added; raise the error of one that cannot."""
         if not is_name(name):
             raise InvalidName(name)
         if name in self._tables:
             raise NameTaken(name)
         if not is_int(columns) or not 1 <= columns <= MAX_COLUMNS:
             raise InvalidColumns(columns)
-        arrangements = all_orders(columns, orders)
+        orders = all_orders(columns, further)
         if len(self._tables) == Base.MAX_TABLES:
             raise TooMany("tables", Base.MAX_TABLES)
-        self._tables[name] = Table(columns, arrangements)
+        return orders
 
     def tables(self):
         """The list of the names of the tables, in the sequence in which they were added."""
@@ -144,9 +148,7 @@ class Base:
 
     def forget(self, version):
         """Drop what happened before a version, which becomes the oldest one."""
-        if version is None:
-            raise UnknownVersion(None)
-        self._oldest = meant_version(self, version)
+        self._oldest = named_version(self, version)
         for name in self._tables:
             self._tables[name].forget_before(self._oldest)
 

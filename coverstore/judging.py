@@ -16,6 +16,13 @@ def meant_version(base, version):
     return version
 
 
+def named_version(base, version):
+    """The version, where it must be named: None is none here; raise the error of one that is not there."""
+    if version is None:
+        raise UnknownVersion(None)
+    return meant_version(base, version)
+
+
 def check_not_forgotten(base, version):
     """Raise TooOld for a version before the oldest one."""
     if version < base.oldest:

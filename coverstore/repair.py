@@ -41,11 +41,15 @@ def repaired(source, paper):
     """The repair of a paper at a source."""
     check_paper(source, paper)
     old = paper.trimmed()
+    broken = {number: True for number, line in enumerate(old.lines()) if is_wrong(source, paper.query, line)}
+    # Without broken lines all lines would get the numbers that they have.
+    if len(broken) == 0:
+        return Repair(old, [], [], [])
     covering = Covering(source, paper.query)
     lost = {}
     numbers = []
     for number, line in enumerate(old.lines()):
-        if not is_wrong(source, paper.query, line):
+        if number not in broken:
             numbers.append(covering.append_line(renumbered(line, numbers)))
             continue
         if line[0] == "point":

@@ -64,6 +64,10 @@ class Rows:
         """The payload of a key, or None if it is absent."""
         return self._payloads.get(key)
 
+    def payloads(self):
+        """A dict from the present keys to their payloads."""
+        return {key: self._payloads[key] for key in self._payloads}
+
     def keys_within(self, box):
         """The sorted list of the present keys in a box of the columns."""
         limits = [bounds(part, self._bits) for part in box.ranges]

@@ -49,10 +49,9 @@ class Source:
         check_key(self, table, key)
         if not is_place(order, len(self.orders(table))):
             raise InvalidPlace(order)
-        rows = self._rows_of(table)
-        if rows.payload_of(key) is not None:
+        if self.payload(table, key) is not None:
             raise KeyTaken(table, key)
-        return rows.gap_around(key, order)
+        return self._rows_of(table).gap_around(key, order)
 
     def gaps(self, table, key):
         """The list of the gaps around an absent key, for all orders."""

@@ -27,29 +27,41 @@ def small_base():
     return base
 
 
-class TablesTest(unittest.TestCase, Raises):
+def assert_new_lists(case, call):
+    """Each call returns a new list."""
+    one, other = call(), call()
+    case.assertIs(list, type(one))
+    case.assertIsNot(one, other)
+    one.append("x")
+    case.assertEqual(other, call())
 
-    def test_new_base(self):
-        for bits in (1, 10):
-            base = Base(bits)
+
+class TablesTest(unittest.TestCase, Raises):
+    """The tables of bases; those of stores are tested likewise, with another way to make one."""
+
+    @staticmethod
+    def made(bits):
+        return Base(bits=bits)
+
+    def test_new(self):
+        for bits in (1, 4, 10):
+            base = self.made(bits)
             self.assertEqual((bits, 0, 0, []), (base.bits, base.version, base.oldest, base.tables()))
-        self.assertEqual(4, Base(bits=4).bits)
-        self.assertEqual((8, 10 ** 9), (Base.MAX_TABLES, Base.MAX_PAYLOAD))
         for bits in (0, 11, EqualsAll()) + NOT_INTEGERS:
-            self.must_raise(InvalidBits, {"value": bits}, Base, bits)
+            self.must_raise(InvalidBits, {"value": bits}, self.made, bits)
 
     def test_names(self):
-        base = Base(3)
+        base = self.made(3)
         for name in NAMES[:8]:
             self.assertIsNone(base.add_table(name, 1))
         self.assertEqual(list(NAMES[:8]), base.tables())
-        other = Base(3)
+        other = self.made(3)
         for name in NAMES[8:]:
             other.add_table(name=name, columns=1)
         self.assertEqual(list(NAMES[8:]), other.tables())
 
     def test_wrong_names_first(self):
-        base = Base(3)
+        base = self.made(3)
         for name in NOT_NAMES + (EqualsAll(),):
             self.must_raise(InvalidName, {"value": name}, base.add_table, name, 0)
         base.add_table("a", 1)
@@ -57,7 +69,7 @@ class TablesTest(unittest.TestCase, Raises):
         self.assertEqual(["a"], base.tables())
 
     def test_columns(self):
-        base = Base(3)
+        base = self.made(3)
         for columns in (1, 2, 3, 4):
             base.add_table("a" * columns, columns)
             self.assertEqual(columns, base.columns("a" * columns))
@@ -66,7 +78,7 @@ class TablesTest(unittest.TestCase, Raises):
             self.must_raise(InvalidColumns, {"value": columns}, base.add_table, "b", columns, None)
 
     def test_orders(self):
-        base = Base(3)
+        base = self.made(3)
         base.add_table("a", 2, (1, 0))
         base.add_table("b", 3, (2, 1, 0), (1, 0, 2))
         base.add_table("c", 4, (3, 2, 1, 0))
@@ -75,7 +87,7 @@ class TablesTest(unittest.TestCase, Raises):
         self.assertEqual([(0, 1, 2, 3), (3, 2, 1, 0)], base.orders(table="c"))
 
     def test_wrong_orders(self):
-        base = Base(3)
+        base = self.made(3)
         wrong = ((0, 1, 2), (0, 0, 1), (0, 1), (2, 1, 0, 3), (3, 2, 1), (-1, 0, 1), (2, 1, False), (True, 0, 2),
                  (2, "1", 0), (2, None, 0), (2, (1,), 0), [2, 1, 0], EqualsAll()) + NOT_TUPLES
         for order in wrong:
@@ -90,7 +102,7 @@ class TablesTest(unittest.TestCase, Raises):
         self.assertEqual([], base.tables())
 
     def test_ninth_table(self):
-        base = Base(3)
+        base = self.made(3)
         for name in "abcdefgh":
             base.add_table(name, 1)
         self.must_raise(TooMany, {"kind": "tables", "limit": 8}, base.add_table, "i", 1)
@@ -101,7 +113,9 @@ class TablesTest(unittest.TestCase, Raises):
         self.assertEqual(list("abcdefgh"), base.tables())
 
     def test_unknown_tables(self):
-        base = small_base()
+        base = self.made(3)
+        base.add_table("a", 2)
+        base.add_table("b", 1)
         for table in NO_TABLES:
             self.must_raise(UnknownTable, {"value": table}, base.columns, table)
             self.must_raise(UnknownTable, {"value": table}, base.orders, table)
@@ -125,6 +139,14 @@ class TablesTest(unittest.TestCase, Raises):
 
 
 class CommitTest(unittest.TestCase, Raises):
+
+    def test_class_values(self):
+        self.assertEqual((8, 10 ** 9), (Base.MAX_TABLES, Base.MAX_PAYLOAD))
+
+    def test_returned_lists_are_new(self):
+        base = small_base()
+        for call in (lambda: base.rows("a"), base.changed_keys, lambda: base.keys_in("a", Box.whole(3, 2))):
+            assert_new_lists(self, call)
 
     def test_versions(self):
         base = small_base()

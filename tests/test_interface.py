@@ -36,6 +36,7 @@ FUNCTIONS = {
     },
     "breaks": {"paper_break": "base, version, paper", "broken_lines": "source, paper"},
     "repair": {"repaired": "source, paper"},
+    "reasons": {"why": "paper, point", "why_not": "paper, point", "what_if": "keeper, writes"},
 }
 
 # What every source has.
@@ -101,6 +102,25 @@ CLASSES = {
     "views": {
         "View": ("keeper, name, query, by=(), what='count', of=None", {
             "results": "version=None", "difference": "version",
+        }),
+    },
+    "overlays": {
+        "Overlay": ("source, writes", {**SOURCE_METHODS, "writes": ""}),
+    },
+    "transactions": {
+        "Transaction": (None, {
+            "version": None, "is_open": None, "ask": "query, *, limit=2000",
+            "groups": "query, by=(), what='count', of=None, *, limit=2000",
+            "add_row": "table, key, payload", "change_row": "table, key, payload", "drop_row": "table, key",
+            "commit": "", "abandon": "", "acts": "", "writes": "",
+        }),
+    },
+    "stores": {
+        "Store": ("bits", {
+            "bits": None, "version": None, "oldest": None, "keeper": None, "add_table": "name, columns, *orders",
+            "tables": "", "columns": "table", "orders": "table", "require": "name, query", "constraints": "",
+            "begin": "", "snapshot": "version=None", "pin": "name, version=None", "unpin": "name", "pins": "",
+            "forget": "version",
         }),
     },
 }

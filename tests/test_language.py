@@ -2,6 +2,7 @@
 
 import ast
 import builtins
+import functools
 import pathlib
 import re
 import unittest
@@ -9,6 +10,7 @@ import unittest
 PACKAGE = pathlib.Path(__file__).resolve().parent.parent / "coverstore"
 FILES = sorted(PACKAGE.glob("**/*.py"))
 TREES = {file.stem: ast.parse(file.read_text()) for file in FILES}
+NODES = [(file, node) for file, tree in TREES.items() for node in ast.walk(tree)]
 
 BUILTINS = set("""
     len range enumerate zip min max sum abs sorted reversed int str bool bytes list tuple dict set isinstance ord repr
@@ -43,13 +45,15 @@ BARRED_WORDS = re.compile(
 
 def walk(kinds):
     """All (file, node) of these kinds."""
-    return [(file, node) for file, tree in TREES.items() for node in ast.walk(tree) if isinstance(node, kinds)]
+    return [(file, node) for file, node in NODES if isinstance(node, kinds)]
 
 
+@functools.cache
 def classes():
     return [node for _, node in walk(ast.ClassDef)]
 
 
+@functools.cache
 def decorated(name):
     """The names of all methods under a decorator."""
     return [
@@ -58,6 +62,7 @@ def decorated(name):
     ]
 
 
+@functools.cache
 def plain_methods():
     return [
         method.name for found in classes() for method in found.body
@@ -65,10 +70,12 @@ def plain_methods():
     ]
 
 
+@functools.cache
 def stored_attributes():
     return [node.attr for _, node in walk(ast.Attribute) if isinstance(node.ctx, ast.Store)]
 
 
+@functools.cache
 def class_values():
     return [
         target.id for found in classes() for node in found.body if isinstance(node, ast.Assign)
@@ -232,7 +239,8 @@ class StatementsTest(unittest.TestCase):
 
     def test_no_handler_of_python_errors(self):
         for file, node in walk(ast.ExceptHandler):
-            self.assertNotIn(node.type.id, dir(builtins), file)
+            for kind in getattr(node.type, "elts", [node.type]):
+                self.assertNotIn(kind.id, dir(builtins), file)
 
     def test_iterators_are_used_at_once(self):
         parents = {
