@@ -5,9 +5,7 @@ from coverstore.evaluating import failing_position, false_box, laid_over, values
 from coverstore.lines import box_of_line, trimmed_lines
 from coverstore.papers import Paper
 from coverstore.queries import SIGNS
-
-# Stands behind the last range of a box in a shelf, where it cannot be taken for a range.
-NUMBER = "number"
+from coverstore.shelves import Shelf
 
 
 def first_open(box):
@@ -36,28 +34,6 @@ def largest_gap(query, position, gaps):
     return gaps[sizes.index(max(sizes))]
 
 
-class Shelf:
-    """Numbers of boxes of one length, range by range in a tree, to find those that contain a box quickly."""
-
-    def __init__(self):
-        self._root = {}
-
-    def put(self, box, number):
-        """Put in a number that is greater than all numbers before; of equal boxes the first one counts."""
-        node = self._root
-        for part in box.ranges:
-            node = node.setdefault(part, {})
-        node.setdefault(NUMBER, number)
-
-    def first_around(self, box):
-        """The least number of the boxes that contain this one, or None."""
-        nodes = [self._root]
-        for part in box.ranges:
-            stems = [part[:length] for length in range(len(part) + 1)]
-            nodes = [node[stem] for node in nodes for stem in stems if stem in node]
-        return min([node[NUMBER] for node in nodes if NUMBER in node], default=None)
-
-
 class Covering:
     """The lines so far of a paper of a query at a source, to which the covers of boxes append new ones."""
 
@@ -83,9 +59,9 @@ class Covering:
 
     def cover(self, box):
         """The number of a line whose box contains a box."""
-        earlier = self._shelf.first_around(box)
-        if earlier is not None:
-            return earlier
+        earlier = self._shelf.all_around(box)
+        if len(earlier) > 0:
+            return min(earlier)
         if box.is_point:
             return self._probe(box.only_point())
         return self._cover_of_halves(box)
@@ -96,6 +72,10 @@ class Covering:
         if self._boxes[number] == box:
             return number
         return self.append_line(("part", number, box))
+
+    def paper_for(self, box):
+        """The paper of this covering whose closing box is this one."""
+        return self.paper_of_line(self.line_for(box))
 
     def paper_of_line(self, number):
         """The paper of the lines that a line needs."""

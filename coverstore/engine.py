@@ -19,8 +19,7 @@ def paper_of(source, query, *, box=None, limit=2000):
     check_box(aim, source.bits, length)
     if not is_int(limit) or not 1 <= limit <= MAX_LIMIT:
         raise InvalidLimit(limit)
-    covering = Covering(source, query, limit)
-    return covering.paper_of_line(covering.line_for(aim))
+    return Covering(source, query, limit).paper_for(aim)
 
 
 def best_order(source, query, *, limit=2000):

@@ -11,6 +11,11 @@ def is_int(value):
     return isinstance(value, int) and not isinstance(value, bool)
 
 
+def is_count(value):
+    """Whether a value is a count."""
+    return is_int(value) and value >= 0
+
+
 def is_place(value, length):
     """Whether a value is one of the places of something with this length."""
     return is_int(value) and 0 <= value < length

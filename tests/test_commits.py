@@ -9,6 +9,7 @@ from coverstore.reasons import what_if
 from coverstore.stores import Store
 
 from helpers import Numbers, Raises
+from pairs import Pairs, change, write
 from slow_store import SlowStore
 
 ALL = Query.read("r(x,y)")
@@ -23,18 +24,6 @@ def small_store():
     change(store, ("insert", "r", (0, 1), 5), ("insert", "r", (0, 2), 6), ("insert", "r", (2, 2), 7),
            ("insert", "s", (3,), -1))
     return store
-
-
-def write(transaction, kind, *parts):
-    {"insert": transaction.add_row, "update": transaction.change_row, "delete": transaction.drop_row}[kind](*parts)
-
-
-def change(store, *writes):
-    """Commit writes in a transaction of their own."""
-    transaction = store.begin()
-    for one in writes:
-        write(transaction, *one)
-    return transaction.commit()
 
 
 class WithoutWritesTest(unittest.TestCase, Raises):
@@ -286,11 +275,8 @@ class ViolatedTest(unittest.TestCase, Raises):
         self.must_raise(Violated, {"name": "few", "point": (0, 3)}, transaction.commit)
 
 
-class ManyTransactionsTest(unittest.TestCase, Raises):
+class ManyTransactionsTest(unittest.TestCase, Pairs):
     """Transactions that are open at the same time; each call is compared with the document's words."""
-
-    TEXTS = ("r(x,y), not s(y)", "r(x,y), r(y,x)", "not r(x,x), s(x)", "r(x,1)", "not s(x)", "s(1)", "x < y, r(y,x)",
-             "r(x,y) by y,x", "r(0,3), s(3)")
 
     CONSTRAINTS = (("rs", "r(x,3), not s(x)"), ("few", "s(0), s(1), s(2), s(3)"), ("ss", "r(x,x), s(x), x != 2"))
 
@@ -317,7 +303,10 @@ class ManyTransactionsTest(unittest.TestCase, Raises):
                         self.act(numbers, *pair)
                     else:
                         pairs.remove(pair)
-                        ends[self.end(numbers, store, *pair, committed)] += 1
+                        word = self.end(numbers, *pair)
+                        ends[word] += 1
+                        if word == "version" and pair[0].writes():
+                            committed.append(pair[0].acts())
                 self.assertEqual(slow.version, store.version)
             self.assert_one_after_another(seed % 3, committed)
             for version, rows in enumerate(slow.model.versions):
@@ -326,46 +315,6 @@ class ManyTransactionsTest(unittest.TestCase, Raises):
                     for key in slow.model.all_keys(table):
                         self.assertEqual(rows.get((table, key)), snapshot.payload(table, key))
         self.assertGreater(min(ends.values()), 8)
-
-    def act(self, numbers, transaction, slow):
-        kind = numbers.below(6)
-        query = Query.read(numbers.one_of(self.TEXTS))
-        if kind == 0:
-            self.assertEqual(slow.ask(query), transaction.ask(query))
-        elif kind == 1:
-            by = query.variables[:numbers.below(2)]
-            what, of = ("count", None) if query.literals()[0][0] != "row" else numbers.one_of(
-                [("count", None), ("sum", 0), ("least", 0), ("greatest", query.variables[0])
-                 if query.variables else ("sum", 0)])
-            self.assertEqual(slow.groups(query, by, what, of), transaction.groups(query, by, what, of))
-        else:
-            table = numbers.one_of("rs")
-            key = numbers.one_of(slow.store.model.all_keys(table))
-            parts = ("insert", table, key, numbers.below(3))
-            if (table, key) in slow.rows or numbers.below(8) == 0:
-                parts = numbers.one_of([("update", table, key, numbers.below(3)), ("delete", table, key), parts])
-            if slow.write(*parts) == "done":
-                write(transaction, *parts)
-            else:
-                kind = KeyTaken if parts[0] == "insert" else NoSuchRow
-                self.must_raise(kind, {"table": table, "key": key}, write, transaction, *parts)
-        self.assertEqual((slow.acts, slow.writes), (transaction.acts(), transaction.writes()))
-
-    def end(self, numbers, store, transaction, slow, committed):
-        if numbers.below(6) == 0:
-            transaction.abandon()
-            return "abandoned"
-        word, *told = slow.commit()
-        if word == "version":
-            self.assertEqual(told[0], transaction.commit())
-            if transaction.writes():
-                committed.append(transaction.acts())
-        elif word == "changed":
-            self.must_raise(Changed, {"act": told[0], "item": told[1]}, transaction.commit)
-        else:
-            self.must_raise(Violated, {"name": told[0], "point": told[1]}, transaction.commit)
-        self.assertIs(False, transaction.is_open)
-        return word
 
     def assert_one_after_another(self, with_constraints, committed):
         """The committed transactions, each alone in a new store, get all their answers and outcomes again."""

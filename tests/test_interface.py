@@ -37,6 +37,8 @@ FUNCTIONS = {
     "breaks": {"paper_break": "base, version, paper", "broken_lines": "source, paper"},
     "repair": {"repaired": "source, paper"},
     "reasons": {"why": "paper, point", "why_not": "paper, point", "what_if": "keeper, writes"},
+    "durable": {"record_text": "body", "pages_of": "record"},
+    "replicas": {"stretch_of": "store, version, digits", "reply": "store, request"},
 }
 
 # What every source has.
@@ -123,6 +125,23 @@ CLASSES = {
             "forget": "version",
         }),
     },
+    "disks": {
+        "Disk": ("", {
+            "__len__": "", "pages": "", "write": "page", "crash_after": "count", "has_crashed": None, "restarted": "",
+            "spoil": "number, page",
+        }),
+    },
+    "durable": {
+        "DurableStore": ("bits, disk", {
+            "add_table": "name, columns, *orders", "require": "name, query", "recovered": "disk",
+        }),
+    },
+    "replicas": {
+        "Replica": ("store", {"first": None, "heard": None, "receive": "message", "ask": "query, version=None"}),
+    },
+    "desk": {
+        "Desk": ("bits", {"store": None, "say": "command"}),
+    },
 }
 
 CLASS_VALUES = {
@@ -132,9 +151,12 @@ CLASS_VALUES = {
     ("queries", "Query", "MAX_LITERALS"): 8,
     ("queries", "Query", "MAX_VARIABLES"): 5,
     ("queries", "Query", "MAX_INTEGER"): 1023,
+    ("disks", "Disk", "PAGE"): 32,
 }
 
-CLASS_METHODS = {("Box", "whole"), ("Box", "at"), ("Box", "read"), ("Query", "read"), ("Paper", "read")}
+CLASS_METHODS = {
+    ("Box", "whole"), ("Box", "at"), ("Box", "read"), ("Query", "read"), ("Paper", "read"), ("DurableStore", "recovered"),
+}
 
 
 def defined_in(file):

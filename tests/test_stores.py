@@ -12,7 +12,8 @@ from coverstore.sources import Snapshot
 from coverstore.stores import Store
 
 from helpers import NAMES, NOT_INTEGERS, NOT_NAMES, EqualsAll, Raises
-from test_commits import change, small_store
+from pairs import change
+from test_commits import small_store
 
 EMPTY = Query.read("r(x,x), s(x), x < 2")
 
