@@ -1,4 +1,7 @@
-"""Bodies of the records of a durable store: the texts of changes, and the changes that have these texts."""
+"""Bodies of the records of a durable store: the texts of changes, and the changes that have these texts.
+
+What is read has None in place of each number that cannot be read. No ledger makes a change with a None in it.
+"""
 
 from coverstore.errors import InvalidText
 from coverstore.numerals import read_decimal, read_signed, read_values, text_of_values
@@ -51,10 +54,9 @@ def read_table(body):
     words = body.split(" ")
     if len(words) != 4 or words[0] != "table":
         return None
-    columns = read_decimal(words[2], MAX_DIGITS)
     texts = words[3].split(";") if words[3] != NO_ORDERS else []
     orders = [read_values(text, MAX_DIGITS) for text in texts]
-    return None if columns is None or None in orders else (words[1], columns, orders)
+    return words[1], read_decimal(words[2], MAX_DIGITS), orders
 
 
 def read_require(body):
@@ -73,15 +75,12 @@ def read_commit(body, version):
     start = f"commit {version} "
     if not body.startswith(start):
         return None
-    writes = [read_write(text) for text in body[len(start):].split("; ")]
-    return None if None in writes else writes
+    return [read_write(text) for text in body[len(start):].split("; ")]
 
 
 def read_write(text):
-    """The write, or at least a tuple of the form of one, that has this text, or None."""
+    """The write that has this text, or a tuple that is none."""
     words = text.split(" ")
-    if not 3 <= len(words) <= 4:
-        return None
-    key = read_values(words[2], MAX_DIGITS)
+    keys = [read_values(word, MAX_DIGITS) for word in words[2:3]]
     payloads = [read_signed(word, MAX_DIGITS) for word in words[3:]]
-    return None if key is None or None in payloads else (words[0], words[1], key, *payloads)
+    return (*words[:2], *keys, *payloads)

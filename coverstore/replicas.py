@@ -12,7 +12,7 @@ from coverstore.ranges import MAX_BITS, range_of
 
 def stretch_of(store, version, digits):
     """The message that tells which keys were changed at a version, by so many leading digits of their values."""
-    if version is None or is_int(version) and version == 0:
+    if version is None or version == 0:
         raise UnknownVersion(version)
     changed = store.changed_keys(version)
     if not is_place(digits, MAX_BITS + 1):
@@ -45,6 +45,8 @@ class Replica:
         self._widths = {table: store.columns(table) for table in store.tables()}
         self._first = store.version
         self._knowledge = Knowledge(store.tables(), store.version)
+        self._asked = []
+        self._covering = None
 
     @property
     def first(self):
@@ -74,5 +76,8 @@ class Replica:
             raise UnknownVersion(version)
         moment = Moment(self._knowledge, self._bits, self._widths, meant)
         fit(query, moment)
-        whole = Box.whole(self._bits, len(query.variables))
-        return Covering(moment, query).paper_for(whole).points()
+        # What was known stays known, so that a query that is asked again goes on where facts were missing.
+        if self._asked != [query, meant]:
+            self._asked = [query, meant]
+            self._covering = Covering(moment, query)
+        return self._covering.paper_for(Box.whole(self._bits, len(query.variables))).points()

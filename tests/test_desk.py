@@ -97,8 +97,8 @@ INTEGERS = {"table t 1": (2,), "forget 0": (1,), "insert 2 r 1,1 -5": (1,), "upd
 LISTS = {"insert 2 r 1,1 -5": 3, "update 2 r 0,1 10": 3, "delete 2 r 0,1": 3, "why all 0,1": 2, "why none ()": 2}
 PAYLOADS = {"insert 2 r 1,1 -5": 4, "update 2 r 0,1 10": 4}
 
-NO_INTEGERS = ("", "01", "00", "+1", "-1", "-0", "1.", "1.0", "0x1", "1_0", "x", "one", "12345678901", "1,1", "1,", "()",
-               "\u0661", "\u00b2", "1\n", "\n1", "(1)", "True", "None", "1e1")
+NO_INTEGERS = ("", "01", "00", "+1", "-1", "-0", "1.", "1.0", "0x1", "1_0", "x", "one", "12345678901", "1,1", "1,",
+               "()", "\u0661", "\u00b2", "1\n", "\n1", "(1)", "True", "None", "1e1")
 
 
 class InvalidTest(unittest.TestCase, Raises):

@@ -413,14 +413,16 @@ class RecoveryTest(unittest.TestCase, Raises):
                 "require a s(7)", "require b s(3)", "require b s(x)", "require b u(x)", "require b r(x)",
                 "require b s(8)", "require b  s(7)", "require b s(7) ", "require b s(7), s(7) by x", "require b",
                 "require b ", "require by s(7)", "require B s(7)", "require b s( 7)", "require b s(07)", "require",
-                "require b s(x),x < 2", "require b r(y,x), x < 0 by x,",
+                "require b s(x),x < 2", "Require b s(7)", "keep b s(7)", "require b r(y,x), x < 0 by x,",
                 "require b r(y,x), x < 0 by y,x", "require b r(y,x), x < 0 by z,x", "require a r(7,7)",
                 "commit 2", "commit 2 ", "commit 1 insert s 4 0", "commit 3 insert s 4 0", "commit 02 insert s 4 0",
                 "commit 2  insert s 4 0", "commit 2 insert s 4 0;", "commit 2 insert s 4 0; ", "commit 2 insert s 3 0",
                 "commit 2 insert s 4 0;delete s 4", "commit 2 insert s 4 0;  delete s 4", "commit 2 delete s 4",
                 "commit 2 update s 4 0", "commit 2 insert s 8 0", "commit 2 insert s 04 0", "commit 2 insert s 4 -0",
-                "commit 2 insert s 4 00", "commit 2 insert s 4 +1", "commit 2 insert s 4 1000000001", "commit 2 add s 4 0",
-                "commit 2 insert s 4 -1000000001", "commit 2 insert s 4", "commit 2 delete s 3 0", "commit 2 insert u 4 0",
+                "commit 2 insert s 4 00", "commit 2 insert s 4 +1", "commit 2 insert s 4 1000000001",
+                "commit 2 add s 4 0",
+                "commit 2 insert s 4 -1000000001", "commit 2 insert s 4", "commit 2 delete s 3 0",
+                "commit 2 insert u 4 0",
                 "commit 2 insert s 4,4 0", "commit 2 insert r 4 0", "commit 2 insert s , 0", "commit 2 insert s  0",
                 "commit 2 insert r 4,4 0", "commit 2 insert s 4 0; insert r 5,5 0", "commit 2 insert s 4 x",
                 "commit 2 insert s 4 --1", "commit 2 insert s 4 0; insert s 4 0", "commit 2 insert s (4) 0",
@@ -430,8 +432,8 @@ class RecoveryTest(unittest.TestCase, Raises):
             self.assertEqual((told(expected), pages), (told(store), stayed), body)
 
     def test_bits_first(self):
-        for bodies in ((), ("table r 2 -",), ("bits 0",), ("bits 11",), ("bits 03",), ("bits",), ("bits ",), ("bits x",),
-                       ("bits 3 ",), ("bits  3",), ("Bits 3",), ("bits 3 3",), ("bits -3",), ("bits +3",),
+        for bodies in ((), ("table r 2 -",), ("bits 0",), ("bits 11",), ("bits 03",), ("bits",), ("bits ",),
+                       ("bits x",), ("bits 3 ",), ("bits  3",), ("Bits 3",), ("bits 3 3",), ("bits -3",), ("bits +3",),
                        ("require a 1 < x", "bits 3"), ("bits 99999999999999999999",), ("",)):
             disk = Disk()
             for page in pages_for(*bodies, "bits 3", "table r 1 -") if bodies else ():

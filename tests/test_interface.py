@@ -155,7 +155,8 @@ CLASS_VALUES = {
 }
 
 CLASS_METHODS = {
-    ("Box", "whole"), ("Box", "at"), ("Box", "read"), ("Query", "read"), ("Paper", "read"), ("DurableStore", "recovered"),
+    ("Box", "whole"), ("Box", "at"), ("Box", "read"), ("Query", "read"), ("Paper", "read"),
+    ("DurableStore", "recovered"),
 }
 
 

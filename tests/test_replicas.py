@@ -269,8 +269,9 @@ class MessagesTest(unittest.TestCase, Raises):
         store.add_table("t", 3)
         change(store, ("insert", "t", (1, 2, 3), 0))
         replica.receive(stretch_of(store, 5, 2))
-        for message in (("present", "t", (1, 2, 3), 5, 5), ("present", "u", (1,), 0, 5), ("present", "u", (1,) * 4, 0, 5),
-                        ("clear", "t", Box(3, [""] * 3), 0, 4), ("clear", "u", Box(3), 0, 4),
+        for message in (("present", "t", (1, 2, 3), 5, 5), ("present", "u", (1,), 0, 5),
+                        ("present", "u", (1,) * 4, 0, 5), ("clear", "t", Box(3, [""] * 3), 0, 4),
+                        ("clear", "u", Box(3), 0, 4),
                         ("clear", "u", Box(3, [""] * 5), 0, 4), ("stretch", 6, (("t", Box(3)), ("u", Box(3, ["1"]))))):
             self.assertIsNone(replica.receive(message))
         self.assertEqual(6, replica.heard)
@@ -483,6 +484,29 @@ class AnswersTest(unittest.TestCase, Raises):
         self.answer(store, replica, query)[0].clear()
         answer = replica.ask(query)
         self.assertEqual((list, [(1, 2), (2, 2), (3, 0)]), (type(answer), answer))
+
+    def test_several_queries_in_turn(self):
+        store = small_store()
+        replica = Replica(store)
+        change(store, ("insert", "s", (3,), 0), ("delete", "r", (1, 2)))
+        replica.receive(stretch_of(store, 5, 3))
+        rows = {4: [(1, 2), (2, 2), (3, 0)], 5: [(2, 2), (3, 0)]}
+        open_ones = [(text, at) for text in ("r(x,y)", "r(x,y) by y,x", "r(y,x)", "not s(3), r(x,y)") for at in (4, 5)]
+        found = {}
+        while open_ones:
+            text, at = open_ones.pop(0)
+            try:
+                found[text, at] = replica.ask(Query.read(text), at)
+            except Needs as needs:
+                for message in reply(store, needs.request):
+                    replica.receive(message)
+                open_ones.append((text, at))
+        for at in (4, 5):
+            self.assertEqual(rows[at], found["r(x,y)", at])
+            self.assertEqual(sorted((y, x) for x, y in rows[at]), found["r(x,y) by y,x", at])
+            # The variables of this one stand in the order of their first occurrence, y before x.
+            self.assertEqual(rows[at], found["r(y,x)", at])
+            self.assertEqual(rows[at] if at == 4 else [], found["not s(3), r(x,y)", at])
 
     def test_what_is_known_of_every_key(self):
         replica = Replica(small_store())
